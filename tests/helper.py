@@ -1,0 +1,169 @@
+"""What the tests share: nets to try, values of any kind, and a second reckoning in Fraction."""
+
+import random
+import unittest
+from fractions import Fraction
+from itertools import combinations
+
+from neverjammed import errors
+
+Z, H, I = (0, 1), (1, 2), (1, 1)
+TWO = (2, 1)
+
+
+class Case(unittest.TestCase):
+    """A test of functions that leave what they are handed as it was."""
+
+    def gives(self, expected, function, *arguments):
+        """The result is this one, of this kind itself: 1 is not True."""
+        before = repr(arguments)
+        result = function(*arguments)
+        self.assertEqual(result, expected, (function.__name__, *arguments))
+        self.assertIs(type(result), type(expected))
+        self.assertEqual(repr(arguments), before)
+
+
+def deep(depth):
+    """A tuple in a tuple, so many deep."""
+    thing = ()
+    for _ in range(depth - 1):
+        thing = (thing,)
+    return thing
+
+
+# Nothing of this is a FRACTION, a NET, SHARES, a SPLIT, PRICES or COSTS of the nets here.
+ODD_VALUES = (
+    None, True, False, 0, 1, -1, 7, 10 ** 39, -(10 ** 39), "", "rooms 1", "(1, 1)", "\n", "# " * 900,
+    [], [1], [(1, 1)], [1, 1], {}, {0: (1, 1)}, {(0, 1): 1}, {"a": [None]}, [[[]]],
+    deep(20), deep(3), (deep(19), deep(18)), ((), (), ()), tuple([None] * 3000), [0] * 3000,
+    errors.Wrong(0), errors.NoCommand(), errors.NoneLet([1]), (errors.Wrong(0), errors.Wrong(1)),
+    (None, None), (True, True), (False, True), (1,), (1, 1, 1), ("1", "1"), ((1, 1), 1), (1, (1, 1)),
+)
+
+
+def spoiled(thing):
+    """All values that are thing with one part otherwise, at any place."""
+    others = [None, True, False, "1", [], {}, errors.Wrong(1)]
+    if isinstance(thing, tuple):
+        others += [list(thing), thing + ((0, 1),), thing + (0,), thing + (None,), thing + thing[-1:]]
+        others += [thing[:-1], thing[1:], {k: part for k, part in enumerate(thing)}, 0, 1, str(thing)]
+        others += [tuple(reversed(thing))]
+    elif isinstance(thing, int):
+        others += [thing + 1, thing - 1, -thing, thing * 2, 0, 1, (thing,), (thing, 1), str(thing)]
+    yield from others
+    if isinstance(thing, tuple):
+        for k, part in enumerate(thing):
+            for other in spoiled(part):
+                yield thing[:k] + (other,) + thing[k + 1:]
+
+
+def number(part):
+    """The number for which a FRACTION stands."""
+    return Fraction(part[0], part[1])
+
+
+def fraction(value):
+    """The FRACTION that stands for a number."""
+    value = Fraction(value)
+    return value.numerator, value.denominator
+
+
+def loads_of_flow(net, split, flow):
+    """The loads of a flow on all links, as numbers."""
+    ways = net[1][flow][1]
+    return [
+        sum(number(share) * number(way[link]) for share, way in zip(split[flow], ways))
+        for link in range(len(net[0]))
+    ]
+
+
+def loads(net, split):
+    """The loads of a split on all links, as numbers."""
+    rows = [loads_of_flow(net, split, flow) for flow in range(len(net[1]))]
+    return [sum((row[link] for row in rows), Fraction(0)) for link in range(len(net[0]))]
+
+
+def fits(net, split):
+    """Whether a split is let."""
+    return all(load <= number(room) for load, room in zip(loads(net, split), net[0]))
+
+
+def lots(many):
+    """All lots of indexes below many."""
+    return [lot for size in range(many + 1) for lot in combinations(range(many), size)]
+
+
+def taken_over(one, other, lot):
+    """The midst of a turn by a lot of flows."""
+    split = list(one)
+    for flow in lot:
+        split[flow] = other[flow]
+    return tuple(split)
+
+
+def midsts(one, other):
+    """All midsts of a turn."""
+    return [taken_over(one, other, lot) for lot in lots(len(one))]
+
+
+def mixed(one, other, part):
+    """The split that lies so far on the straight way from one to other."""
+    return tuple(
+        tuple(fraction((1 - part) * number(a) + part * number(b)) for a, b in zip(here, there))
+        for here, there in zip(one, other)
+    )
+
+
+def some_shares(chance, demand, many):
+    """Shares of so many ways that come to the demand, often 0."""
+    weights = [chance.choice([0, 0, 1, 1, 2, 3, 5]) for _ in range(many)]
+    if not any(weights):
+        weights[chance.randrange(many)] = 1
+    return tuple(fraction(number(demand) * w / sum(weights)) for w in weights)
+
+
+def some_split(chance, flows):
+    """A split of these flows."""
+    return tuple(some_shares(chance, demand, len(ways)) for demand, ways in flows)
+
+
+def some_flows(chance, links):
+    """At most four flows, some without a demand, some with ways that take nothing."""
+    flows = []
+    for _ in range(chance.randrange(5)):
+        demand = fraction(Fraction(chance.randrange(7), chance.randrange(1, 5)))
+        ways = tuple(
+            tuple(fraction(Fraction(max(0, chance.randrange(-2, 5)), chance.randrange(1, 4)))
+                  for _ in range(links))
+            for _ in range(chance.randrange(1, 5))
+        )
+        flows.append((demand, ways))
+    return tuple(flows)
+
+
+def some_net_and_splits(chance, is_let):
+    """A net and three splits of it, all let, with links often full; or let just as it comes."""
+    links = chance.randrange(5)
+    flows = some_flows(chance, links)
+    splits = tuple(some_split(chance, flows) for _ in range(3))
+    bare = ((Z,) * links, flows)
+    rooms = []
+    for link in range(links):
+        borne = [loads(bare, split)[link] for split in splits]
+        most = max(borne) if is_let else chance.choice(borne)
+        rooms.append(fraction(most + Fraction(chance.choice([0, 0, 0, 1, 2]), 3)))
+    return (tuple(rooms), flows), splits
+
+
+def cases(many, is_let=False):
+    """So many nets with three splits each, the same ones at each call."""
+    chance = random.Random(many)
+    return [some_net_and_splits(chance, is_let) for _ in range(many)]
+
+
+NO_LINKS = ((), ((I, ((), ())), (H, ((),))))
+NO_FLOWS = ((I, Z, (3, 2)), ())
+NOTHING = ((), ())
+PAIR = ((I, (3, 2)), ((I, ((I, Z), (Z, TWO))), (H, ((I, I),))))
+IDLE = ((Z, H), ((Z, ((I, I), (Z, Z))), ((2, 3), ((Z, H), (Z, H), (Z, Z)))))
+NETS = (PAIR, IDLE, NO_LINKS, NO_FLOWS, NOTHING)
