@@ -3,10 +3,15 @@
 from neverjammed.fractions import ZERO, added, compared, times
 
 
+def load_of_shares(net, flow, shares, link):
+    """The LOAD of any shares of a flow on a link."""
+    ways = net[1][flow][1]
+    return added([times(share, way[link]) for share, way in zip(shares, ways)])
+
+
 def load_of(net, split, flow, link):
     """The LOAD of a flow's shares on a link."""
-    ways = net[1][flow][1]
-    return added([times(share, way[link]) for share, way in zip(split[flow], ways)])
+    return load_of_shares(net, flow, split[flow], link)
 
 
 def loads_on(net, split):
@@ -34,11 +39,16 @@ def agree(net, one, other, lot):
     ])
 
 
+def mean_of(splits, parts):
+    """The split whose shares are the sums of part * share, whatever net it is of."""
+    return tuple([
+        _mean_shares([split[flow] for split in splits], parts) for flow in range(len(splits[0]))
+    ])
+
+
 def mean_split(net, splits, parts):
     """The split whose shares are the sums of part * share, the parts being 1 in sum."""
-    return tuple([
-        _mean_shares([split[flow] for split in splits], parts) for flow in range(len(net[1]))
-    ])
+    return mean_of(splits, parts)
 
 
 def with_room(net, link, room):

@@ -13,8 +13,13 @@ def midst(net, one, other, lot):
 
 def is_clean(net, one, other):
     """Whether each midst of the turn is let."""
-    loads = _greatest_loads(net, one, other)
+    loads = turn_loads(net, one, other)
     return all([compared(load, room) <= 0 for load, room in zip(loads, net[0])])
+
+
+def turn_loads(net, one, other):
+    """For each link the greatest load of a midst of the turn."""
+    return tuple([_greatest_load(net, one, other, link) for link in range(len(net[0]))])
 
 
 def growths(net, one, other):
@@ -33,7 +38,7 @@ def worst_lot(net, one, other, link):
 
 def lacking_room(net, one, other):
     """For each link by how much the greatest load of a midst is above its room, or 0."""
-    loads = _greatest_loads(net, one, other)
+    loads = turn_loads(net, one, other)
     return tuple([greatest_of((ZERO, less(load, room))) for load, room in zip(loads, net[0])])
 
 
@@ -64,7 +69,3 @@ def _growth(net, one, other, link):
 def _greatest_load(net, one, other, link):
     # Each flow bears most by the greater one of its two loads, whatever the others do.
     return added([greatest_of(loads) for loads in _both_loads(net, one, other, link)])
-
-
-def _greatest_loads(net, one, other):
-    return tuple([_greatest_load(net, one, other, link) for link in range(len(net[0]))])

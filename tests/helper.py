@@ -3,7 +3,7 @@
 import random
 import unittest
 from fractions import Fraction
-from itertools import combinations
+from itertools import combinations, product
 
 from neverjammed import errors
 
@@ -155,10 +155,91 @@ def some_net_and_splits(chance, is_let):
     return (tuple(rooms), flows), splits
 
 
+def some_flow_of_odd_ways(chance, links):
+    """A flow some of whose ways are equal, take nothing, or are means of others, or all but that."""
+    base = [[Fraction(chance.randrange(5), chance.randrange(1, 4)) for _ in range(links)] for _ in range(2)]
+    part = Fraction(chance.randrange(1, 4), 4)
+    mean = [part * a + (1 - part) * b for a, b in zip(*base)]
+    scarcely = Fraction(chance.choice([-1, 1]), 10 ** 8 + 7)
+    almost = [max(Fraction(0), a + (scarcely if k == 0 else 0)) for k, a in enumerate(mean)]
+    ways = chance.sample([*base, base[0], mean, almost, [Fraction(0)] * links], chance.randrange(1, 5))
+    return chance.choice([I, TWO, H, Z]), tuple(tuple(fraction(a) for a in way) for way in ways)
+
+
+def odd_flows(many):
+    """So many nets of one flow each, with shares of three kinds: by chance, few, and with long numbers."""
+    chance = random.Random(many)
+    found = []
+    for _ in range(many):
+        links = chance.choice([1, 2, 2, 3, 3, 4])
+        demand, ways = some_flow_of_odd_ways(chance, links)
+        net = (I,) * links, ((demand, ways),)
+        alone = tuple(demand if way == 0 else Z for way in range(len(ways)))
+        found.append((net, (some_shares(chance, demand, len(ways)), alone, long_shares(chance, demand, len(ways)))))
+    return found
+
+
 def cases(many, is_let=False):
     """So many nets with three splits each, the same ones at each call."""
     chance = random.Random(many)
     return [some_net_and_splits(chance, is_let) for _ in range(many)]
+
+
+def halves(demand, many):
+    """All shares of so many ways in halves of the demand."""
+    parts = [part for part in product(range(3), repeat=many) if sum(part) == 2]
+    return sorted({tuple(fraction(number(demand) * k / 2) for k in part) for part in parts})
+
+
+def some_tight_flow(chance, links, is_fair):
+    """A flow with up to three ways; if it is fair, each one takes as much of just one link."""
+    unit = [tuple(I if k == link else Z for k in range(links)) for link in range(links)]
+    size = chance.choice([I, I, H, TWO])
+    fair = [tuple(size if part == I else Z for part in way) for way in unit]
+    odd = unit + [tuple(chance.choice([Z, H, I]) for _ in range(links)) for _ in range(2)]
+    many = chance.choice([2, 2, 3, 1])
+    ways = [chance.choice(odd) for _ in range(many)]
+    if is_fair:
+        ways = chance.sample(fair, min(many, links))
+    return chance.choice([I, I, I, TWO, H, Z]), tuple(ways)
+
+
+def some_tight_net_and_splits(chance):
+    """A net with room for just one of its splits, or scarcely more, and up to three that are let in it."""
+    links, is_fair = chance.randrange(1, 4), chance.randrange(3) > 0
+    flows = tuple(some_tight_flow(chance, links, is_fair) for _ in range(chance.choice([1, 2, 2, 3, 3])))
+    grid = list(product(*[halves(demand, len(ways)) for demand, ways in flows]))
+    rooms = [fraction(load) for load in loads(((Z,) * links, flows), chance.choice(grid))]
+    if chance.randrange(4) == 0:
+        link = chance.randrange(links)
+        rooms[link] = fraction(number(rooms[link]) + Fraction(1, 2))
+    net = tuple(rooms), flows
+    let = [split for split in grid if fits(net, split)]
+    return net, tuple(chance.sample(let, min(3, len(let))))
+
+
+def tight_cases(many):
+    """So many nets with one to three let splits each, often locked, the same ones at each call."""
+    chance = random.Random(many)
+    return [some_tight_net_and_splits(chance) for _ in range(many)]
+
+
+def some_chain(many):
+    """A net and a split at which so many full links come free, each one only behind the one ahead of it."""
+    unit = [tuple(I if k == link else Z for k in range(many)) for link in range(many)]
+    idle = (Z,) * many
+    flows = tuple((I, (unit[k], unit[k - 1] if k > 0 else idle)) for k in range(many))
+    return ((I,) * many, flows), ((I, Z),) * many
+
+
+def long_shares(chance, demand, many):
+    """Shares of so many ways that come to the demand, with integers of up to sixty digits."""
+    if many == 1:
+        return (demand,)
+    den = chance.randrange(10 ** 54, 10 ** 55)
+    cuts = sorted(chance.randrange(den + 1) for _ in range(many - 1))
+    parts = [Fraction(b - a, den) for a, b in zip([0] + cuts, cuts + [den])]
+    return tuple(fraction(number(demand) * part) for part in parts)
 
 
 NO_LINKS = ((), ((I, ((), ())), (H, ((),))))

@@ -26,7 +26,10 @@ TEXTS = r'''
 ['rooms 1\nflow 2\nway 0', ((), ())]
 '''
 
-TURNS = r'''
+COURSES = r'''
+>>> from neverjammed.courses import course_of, end_of, greatest_loads, is_course, is_road, kept_splits, one_by_one
+>>> from neverjammed.courses import parts_of_way, turned_about, turns_of
+>>> from neverjammed.orders import clean_order, let_lots, orders_many, waves_of
 >>> from neverjammed.turns import clean_part, growths, is_clean, lacking_room, midst, worst_lot
 >>> one, zero, half = (1, 1), (0, 1), (1, 2)
 >>> net = (((3, 2),), ((one, ((one,), (zero,))), (one, ((one,), (zero,)))))
@@ -35,6 +38,81 @@ TURNS = r'''
 [False, ((2, 1), (1,)), ((1, 2),), ((1, 1),)]
 >>> [midst(net, here, there, (0,)), clean_part(net, here, there)]
 [(((0, 1), (1, 1)), ((0, 1), (1, 1))), (1, 2)]
+>>> [let_lots(net, here, there), clean_order(net, here, there), orders_many(net, here, there), waves_of(net, here, there)]
+[[(), (0,), (0, 1)], (0, 1), 1, ((0,), (1,))]
+>>> course = parts_of_way(net, here, there, 2)
+>>> [course[1], is_course(net, course), is_course(net, (here, there)), greatest_loads(net, course)]
+[(((1, 2), (1, 2)), ((1, 2), (1, 2))), True, False, ((3, 2),)]
+>>> [one_by_one(net, course)[1], len(one_by_one(net, course)), kept_splits(net, course), kept_splits(net, (here, here, here))]
+[(((1, 2), (1, 2)), ((0, 1), (1, 1))), 5, (0, 1, 2), (0, 2)]
+>>> turned_about(course) == parts_of_way(net, there, here, 2)
+True
+>>> road = (here, ((there, 2), (there, 5)))
+>>> [is_road(net, road), is_road(net, (here, ((there, 1),))), turns_of(road), end_of((here, ())) == here]
+[True, False, 7, True]
+>>> course_of((here, ((there, 2),))) == course
+True
+'''
+
+PRICES = r'''
+>>> from neverjammed.prices import are_prices_for, cheapest_ways, is_cheapest, least_cost, prices_for, way_cost
+>>> from neverjammed.shares import better_shares, efficient_shares, is_better, is_efficient, least_load, lessened
+>>> one, zero, half = (1, 1), (0, 1), (1, 2)
+>>> left, right, both = (one, zero), (zero, one), (one, one)
+>>> net = ((one, one), ((one, (left, right, both)),))
+>>> wide, mean = (zero, zero, one), (half, half, zero)
+>>> [is_efficient(net, 0, wide, (0, 1)), is_efficient(net, 0, mean, (0, 1)), is_efficient(net, 0, mean, (0,)), is_efficient(net, 0, wide, ())]
+[False, True, False, True]
+>>> [is_better(net, 0, wide, (0, 1), (one, zero, zero)), is_better(net, 0, mean, (0, 1), (one, zero, zero)), better_shares(net, 0, mean, (0, 1))]
+[True, False, None]
+>>> [lessened(net, 0, wide, (0, 1)), lessened(net, 0, mean, (0,)), least_load(net, 0, mean, (0, 1), 0), least_load(net, 0, mean, (0,), 0)]
+[(0, 1), (0,), (1, 2), (0, 1)]
+>>> [way_cost(net, 0, 2, (one, half)), least_cost(net, 0, (one, half)), cheapest_ways(net, 0, (one, one)), is_cheapest(net, 0, mean, (one, half))]
+[(3, 2), (1, 2), (0, 1), False]
+>>> [are_prices_for(net, 0, mean, (0, 1), (one, one)), are_prices_for(net, 0, mean, (0, 1), (one, zero)), prices_for(net, 0, wide, (0, 1))]
+[True, False, None]
+>>> [efficient_shares(net, 0, mean, (0, 1)) == mean, is_efficient(net, 0, efficient_shares(net, 0, wide, (0, 1)), (0, 1))]
+[True, True]
+'''
+
+LOCKS = r'''
+>>> from neverjammed.lockpapers import is_lock_paper, lock_paper, unlocking
+>>> from neverjammed.locks import is_locked, lock_of, locked_lots, thinned
+>>> one, zero, half = (1, 1), (0, 1), (1, 2)
+>>> left, right, spare = (one, zero, zero), (zero, one, zero), (zero, zero, one)
+>>> rooms = (one, one, half)
+>>> net = (rooms, ((one, (left, right)), (one, (left, right))))
+>>> split = ((one, zero), (zero, one))
+>>> [lock_of(net, split), locked_lots(net, split), thinned(net, split)]
+[(0, 1), [(), (0, 1)], [(0, 1)]]
+>>> [is_locked(net, split, (0,)), lock_paper(net, split, (0,)), unlocking(net, split, (0, 2)), unlocking(net, split, (0,))[0]]
+[False, None, (2,), 0]
+>>> [is_lock_paper(net, split, (0, 1), ((one, one, zero),) * 2), is_lock_paper(net, split, (0, 1), ((one, half, zero),) * 2)]
+[True, False]
+>>> wider = (rooms, ((one, (left, right, spare)), (one, (left, right))))
+>>> [thinned(wider, ((one, zero, zero), (zero, one))), lock_of(wider, ((half, zero, half), (zero, one)))]
+[[(0, 1), (1,), ()], ()]
+'''
+
+JOINING = r'''
+>>> from neverjammed.joining import are_joined, bar_between, is_bar, road_between
+>>> from neverjammed.loosening import even_parts, loosened
+>>> one, zero, half = (1, 1), (0, 1), (1, 2)
+>>> left, right, spare = (one, zero, zero), (zero, one, zero), (zero, zero, one)
+>>> flows = ((one, (left, right)), (one, (left, right)))
+>>> here, there = ((one, zero), (zero, one)), ((zero, one), (one, zero))
+>>> net, paper = ((one, one, half), flows), ((one, one, zero),) * 2
+>>> [are_joined(net, here, there), road_between(net, here, there), loosened(net, here) == (here,)]
+[False, None, True]
+>>> [is_bar(net, here, there, (0, (0, 1), paper)), is_bar(net, here, here, (0, (0, 1), paper))]
+[True, False]
+>>> [even_parts(net, here, there), even_parts((((3, 2), (3, 2), half), flows), here, there)]
+[None, 2]
+>>> wider = ((one, one, half), ((one, (left, right, spare)), flows[1]))
+>>> here, there = ((one, zero, zero), (zero, one)), ((zero, one, zero), (one, zero))
+>>> road = road_between(wider, here, there)
+>>> [road[0] == here, road[1][-1][0] == there, bar_between(wider, here, there), even_parts(wider, here, here)]
+[True, True, None, 1]
 '''
 
 
@@ -49,11 +127,20 @@ class ExamplesTest(unittest.TestCase):
     def test_texts(self):
         self.holds("[15]", TEXTS, 11)
 
-    def test_turns(self):
-        self.holds("[18]", TURNS, 6)
+    def test_turns_orders_and_courses(self):
+        self.holds("[18]", COURSES, 17)
+
+    def test_shares_and_prices(self):
+        self.holds("[20]", PRICES, 12)
+
+    def test_locks_and_their_papers(self):
+        self.holds("[22]", LOCKS, 12)
+
+    def test_loosening_and_joining(self):
+        self.holds("[24]", JOINING, 14)
 
     def test_readme(self):
-        self.holds("README.md", README.read_text(), 10)
+        self.holds("README.md", README.read_text(), 20)
 
 
 if __name__ == "__main__":

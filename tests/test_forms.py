@@ -1,7 +1,6 @@
 """[12], and the definitions of [2] on which it rests."""
 
 import unittest
-from fractions import Fraction
 
 from neverjammed.forms import (
     is_costs, is_fraction, is_integer, is_lot, is_net, is_prices, is_shares, is_split,
@@ -9,56 +8,9 @@ from neverjammed.forms import (
 from tests.helper import (
     Case, H, I, IDLE, NETS, NOTHING, NO_FLOWS, NO_LINKS, ODD_VALUES, PAIR, TWO, Z, cases, deep, lots, spoiled,
 )
-
-
-# The definitions once more, by other means, to judge the values that are spoiled at some place.
-
-def plainly_fraction(thing, least=None):
-    if type(thing) is not tuple or [type(part) for part in thing] != [int, int]:
-        return False
-    if thing[1] < 1 or str(Fraction(*thing)) != (f"{thing[0]}/{thing[1]}" if thing[1] > 1 else str(thing[0])):
-        return False
-    return least is None or Fraction(*thing) >= least
-
-
-def plainly_row(thing, many, least=None):
-    return type(thing) is tuple and len(thing) == many and all(plainly_fraction(part, least) for part in thing)
-
-
-def plainly_net(thing):
-    if type(thing) is not tuple or [type(part) for part in thing] != [tuple, tuple]:
-        return False
-    for flow in thing[1]:
-        if type(flow) is not tuple or len(flow) != 2 or not plainly_fraction(flow[0], 0):
-            return False
-        if type(flow[1]) is not tuple or flow[1] == ():
-            return False
-        if not all(plainly_row(way, len(thing[0]), 0) for way in flow[1]):
-            return False
-    return plainly_row(thing[0], len(thing[0]), 0)
-
-
-def plainly_shares(net, flow, thing):
-    demand, ways = net[1][flow]
-    return plainly_row(thing, len(ways), 0) and sum(Fraction(*part) for part in thing) == Fraction(*demand)
-
-
-def plainly_split(net, thing):
-    if type(thing) is not tuple or len(thing) != len(net[1]):
-        return False
-    return all(plainly_shares(net, flow, thing[flow]) for flow in range(len(thing)))
-
-
-def plainly_prices(net, lot, thing):
-    if not plainly_row(thing, len(net[0]), 0):
-        return False
-    return [link for link, price in enumerate(thing) if Fraction(*price) != 0] == list(lot)
-
-
-def plainly_costs(net, thing):
-    if type(thing) is not tuple or len(thing) != len(net[1]):
-        return False
-    return all(plainly_row(thing[flow], len(net[1][flow][1])) for flow in range(len(thing)))
+from tests.plain import (
+    plainly_costs, plainly_fraction, plainly_lot, plainly_net, plainly_prices, plainly_shares, plainly_split,
+)
 
 
 class FormsTest(Case):
@@ -202,6 +154,8 @@ class FormsTest(Case):
         for many in range(6):
             for lot in lots(5):
                 self.gives(max(lot, default=-1) < many, is_lot, many, lot)
+                for thing in spoiled(lot):
+                    self.gives(plainly_lot(many, thing), is_lot, many, thing)
         for many, thing in [
             (3, (1, 0)), (3, (0, 0)), (3, (0, 1, 1)), (3, (0, 2, 1)), (3, (3,)), (3, (0, 3)), (3, (-1,)), (3, (-1, 0)),
             (3, (True,)), (3, (0, True)), (3, (False,)), (3, (False, 1)), (3, ("0",)), (3, (None,)), (3, ((0,),)),

@@ -10,7 +10,8 @@ from neverjammed import errors
 
 FOLDER = pathlib.Path(__file__).resolve().parent.parent / "neverjammed"
 
-# In the order of the document: a module may use those above it.
+# In the order of the document: a module may use those above it. Those that it does not list (lots, simplex)
+# stand where they are needed.
 FUNCTIONS = {
     "forms": """is_integer(thing) is_fraction(thing) is_net(thing) is_shares(net, flow, thing) is_split(net, thing)
         is_lot(many, thing) is_prices(net, lot, thing) is_costs(net, thing)""",
@@ -24,6 +25,24 @@ FUNCTIONS = {
     "reader": "read_net(text) read_split(net, text)",
     "turns": """midst(net, one, other, lot) growths(net, one, other) worst_lot(net, one, other, link)
         lacking_room(net, one, other) is_clean(net, one, other) clean_part(net, one, other)""",
+    "lots": "parts_of(lot) together(one, other) without(lot, others)",
+    "orders": """let_lots(net, one, other) clean_order(net, one, other) waves_of(net, one, other)
+        orders_many(net, one, other) is_order(net, one, other, thing) are_waves(net, one, other, thing)""",
+    "courses": """is_course(net, thing) is_road(net, thing) turns_of(road) end_of(road) course_of(road) turned_about(course)
+        parts_of_way(net, one, other, many) greatest_loads(net, course) one_by_one(net, course)
+        kept_splits(net, course)""",
+    "simplex": "least_sum(costs, rows, rights)",
+    "shares": """is_efficient(net, flow, shares, lot) is_better(net, flow, shares, lot, thing)
+        better_shares(net, flow, shares, lot) efficient_shares(net, flow, shares, lot) lessened(net, flow, shares, lot)
+        least_load(net, flow, shares, lot, link)""",
+    "prices": """way_cost(net, flow, way, prices) least_cost(net, flow, prices) cheapest_ways(net, flow, prices)
+        is_cheapest(net, flow, shares, prices) are_prices_for(net, flow, shares, lot, thing)
+        prices_for(net, flow, shares, lot)""",
+    "locks": "lock_of(net, split) is_locked(net, split, lot) locked_lots(net, split) thinned(net, split)",
+    "lockpapers": "lock_paper(net, split, lot) unlocking(net, split, lot) is_lock_paper(net, split, lot, thing)",
+    "loosening": "loosened(net, split) even_parts(net, one, other)",
+    "joining": """are_joined(net, one, other) is_bar(net, one, other, thing) road_between(net, one, other)
+        bar_between(net, one, other)""",
 }
 ERRORS = {
     "Wrong": ["place"], "NoText": ["line"], "TooMany": ["most"], "NoneLet": ["paper"], "Jammed": ["link"],

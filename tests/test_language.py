@@ -1,6 +1,7 @@
 """The rules of the language that can be seen without running anything."""
 
 import ast
+import builtins
 import pathlib
 import unittest
 
@@ -8,7 +9,10 @@ from tests.test_interface import FOLDER, FUNCTIONS
 
 MODULES = ["errors", *FUNCTIONS]
 LIBRARY = {"math": {"gcd", "lcm"}}
-BARRED = (ast.Div, ast.Import, ast.AsyncFunctionDef, ast.AsyncFor, ast.AsyncWith, ast.Await)
+# Lists stand for generator expressions, as any, all and sum need them once a class has an __eq__.
+BARRED = (
+    ast.Div, ast.Import, ast.AsyncFunctionDef, ast.AsyncFor, ast.AsyncWith, ast.Await, ast.Global, ast.GeneratorExp,
+)
 
 
 def files():
@@ -59,6 +63,23 @@ class LanguageTest(unittest.TestCase):
                     self.assertEqual(node.decorator_list, [])
                     names.append(node.name)
             self.assertEqual(len(names), len(set(names)))
+
+    def test_names(self):
+        for path in files():
+            tree = tree_of(path)
+            imported = {alias.name for node in ast.walk(tree) if isinstance(node, ast.ImportFrom) for alias in node.names}
+            taken = imported | set(dir(builtins)) | {node.name for node in tree.body if isinstance(node, ast.ClassDef)}
+            for node in ast.walk(tree):
+                if isinstance(node, ast.Name) and isinstance(node.ctx, ast.Store):
+                    self.assertNotIn(node.id, taken, path)
+                elif isinstance(node, ast.arg):
+                    self.assertNotIn(node.arg, taken, path)
+                elif isinstance(node, ast.FunctionDef):
+                    self.assertNotIn(node.name, taken, path)
+                elif isinstance(node, ast.comprehension):
+                    self.assertNotIn("_", [part.id for part in ast.walk(node.target) if isinstance(part, ast.Name)], path)
+            used = {node.id for node in ast.walk(tree) if isinstance(node, ast.Name)}
+            self.assertEqual(imported - used, set(), path)
 
     def test_what_does_not_occur(self):
         for path in files():

@@ -6,17 +6,14 @@ from fractions import Fraction
 from neverjammed.nets import is_let
 from neverjammed.turns import clean_part, growths, is_clean, lacking_room, midst, worst_lot
 from tests.helper import (
-    Case, H, I, NOTHING, NO_FLOWS, NO_LINKS, PAIR, TWO, Z, cases, fits, fraction, loads, loads_of_flow, lots, midsts,
-    mixed, number, taken_over,
+    Case, H, I, NOTHING, NO_FLOWS, NO_LINKS, PAIR, TWO, Z, cases, fraction, loads, loads_of_flow, lots, midsts, mixed,
+    number, taken_over,
 )
+from tests.plain import plainly_clean
 
 # Two flows that change places on one link.
 FLOWS = ((I, ((I,), (Z,))), (I, ((I,), (Z,))))
 HERE, THERE = ((I, Z), (Z, I)), ((Z, I), (I, Z))
-
-
-def plainly_clean(net, one, other):
-    return all(fits(net, split) for split in midsts(one, other))
 
 
 class TurnsTest(Case):

@@ -1,0 +1,70 @@
+"""Least sums, judged by their numbers and prices alone."""
+
+import random
+import unittest
+from fractions import Fraction
+
+from neverjammed.simplex import least_sum
+from tests.helper import Case, H, I, TWO, Z, fraction, number
+
+
+class SimplexTest(Case):
+
+    def holds(self, costs, rows, rights):
+        """The numbers meet the rows, the prices stay below the costs, and both come to the same value."""
+        value, numbers, prices = least_sum(costs, rows, rights)
+        self.gives((value, numbers, prices), least_sum, costs, rows, rights)
+        xs, ys = [number(x) for x in numbers], [number(y) for y in prices]
+        self.assertEqual([fraction(x) for x in xs], list(numbers))
+        self.assertEqual([fraction(y) for y in ys], list(prices))
+        self.assertTrue(all(x >= 0 for x in xs) and len(xs) == len(costs) and len(ys) == len(rows))
+        for row, right in zip(rows, rights):
+            self.assertEqual(sum(number(part) * x for part, x in zip(row, xs)), number(right))
+        for at, cost in enumerate(costs):
+            self.assertLessEqual(sum(number(row[at]) * y for row, y in zip(rows, ys)), number(cost))
+        self.assertEqual(sum(number(cost) * x for cost, x in zip(costs, xs)), number(value))
+        self.assertEqual(sum(number(right) * y for right, y in zip(rights, ys)), number(value))
+        return value
+
+    def test_by_hand(self):
+        self.assertEqual(self.holds((I, TWO), [(I, I)], [(3, 1)]), (3, 1))
+        self.assertEqual(self.holds((TWO, (3, 2)), [(I, I)], [H]), (3, 4))
+        self.assertEqual(self.holds((I, (-1, 1)), [(I, I)], [(3, 1)]), (-3, 1))
+        # x + y = 2 and x + z = 1: y is at least 1.
+        self.assertEqual(self.holds((Z, I, Z), [(I, I, Z), (I, Z, I)], [TWO, I]), I)
+        # The same row twice, and one that is empty.
+        self.assertEqual(self.holds((I, I), [(I, H), (I, H), (Z, Z)], [I, I, Z]), I)
+        self.assertEqual(self.holds((I, I), [(I, (-1, 1)), ((-1, 1), I)], [Z, Z]), Z)
+
+    def test_numbers_that_are_known_to_meet_the_rows(self):
+        chance = random.Random(5)
+        for kind in range(300):
+            many, size = chance.randrange(1, 8), chance.randrange(1, 7)
+            den = 10 ** 50 if kind % 3 == 0 else 6
+            xs = [Fraction(chance.choice([0, 0, 1, 2, chance.randrange(den)]), chance.choice([1, den])) for _ in range(many)]
+            rows = [[chance.choice([0, 0, 1, 1, 2, -1, Fraction(1, 3)]) for _ in range(many)] for _ in range(size)]
+            if kind % 4 == 0:
+                rows.append([2 * part for part in rows[0]])
+                rows.append([a + b for a, b in zip(rows[0], rows[-2])])
+            rows.append([1] * many)
+            rights = [sum(part * x for part, x in zip(row, xs)) for row in rows]
+            rows = [[-part for part in row] if right < 0 else row for row, right in zip(rows, rights)]
+            rights = [abs(right) for right in rights]
+            costs = [Fraction(chance.randrange(-4, 5), chance.choice([1, 2, 3])) for _ in range(many)]
+            value = self.holds(
+                tuple(fraction(cost) for cost in costs), [tuple(fraction(part) for part in row) for row in rows],
+                [fraction(right) for right in rights],
+            )
+            self.assertLessEqual(number(value), sum(cost * x for cost, x in zip(costs, xs)))
+
+    def test_states_do_not_come_again(self):
+        # Beale's example, in which a less careful choice goes round for ever.
+        rows = [
+            ((1, 4), (-60, 1), (-1, 25), (9, 1), I, Z, Z), (H, (-90, 1), (-1, 50), (3, 1), Z, I, Z), (Z, Z, I, Z, Z, Z, I),
+        ]
+        costs = ((-3, 4), (150, 1), (-1, 50), (6, 1), Z, Z, Z)
+        self.assertEqual(self.holds(costs, rows, [Z, Z, I]), (-1, 20))
+
+
+if __name__ == "__main__":
+    unittest.main()
