@@ -68,7 +68,8 @@ class LanguageTest(unittest.TestCase):
         for path in files():
             tree = tree_of(path)
             imported = {alias.name for node in ast.walk(tree) if isinstance(node, ast.ImportFrom) for alias in node.names}
-            taken = imported | set(dir(builtins)) | {node.name for node in tree.body if isinstance(node, ast.ClassDef)}
+            taken = imported | {node.name for node in tree.body if isinstance(node, ast.ClassDef)}
+            taken |= {name for name in dir(builtins) if not name.startswith("_")}
             for node in ast.walk(tree):
                 if isinstance(node, ast.Name) and isinstance(node.ctx, ast.Store):
                     self.assertNotIn(node.id, taken, path)
