@@ -2,7 +2,7 @@
 
 from neverjammed.forms import is_prices
 from neverjammed.fractions import ZERO, added, compared, least_of, times
-from neverjammed.shares import most_gained
+from neverjammed.shares import better_or_prices
 
 
 def way_cost(net, flow, way, prices):
@@ -31,12 +31,7 @@ def is_cheapest(net, flow, shares, prices):
 
 def prices_for(net, flow, shares, lot):
     """PRICES of the lot by which shares are CHEAPEST, None if there are none."""
-    gain, _, prices = most_gained(net, flow, shares, lot)
-    if gain != ZERO:
-        return None
-    return tuple([
-        prices[lot.index(link)] if link in lot else ZERO for link in range(len(net[0]))
-    ])
+    return better_or_prices(net, flow, shares, lot)[1]
 
 
 def are_prices_for(net, flow, shares, lot, thing):

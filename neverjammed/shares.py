@@ -1,34 +1,35 @@
 """Shares of a flow that are better than others on a lot of links."""
 
 from neverjammed.forms import is_shares
-from neverjammed.fractions import ONE, ZERO, compared
+from neverjammed.fractions import ONE, ZERO, compared, less
 from neverjammed.nets import load_of_shares
 from neverjammed.simplex import least_sum
 
 
-def most_gained(net, flow, shares, lot):
-    """A tuple (gain, shares, prices).
+def better_or_prices(net, flow, shares, lot):
+    """A tuple (better, prices): shares that are BETTER on the lot, or PRICES by which these are CHEAPEST.
 
-    The gain is the most by which shares can come below these, in the sum over all links of the lot, with
-    no more load on any of them; those shares do so; and no way costs more room by the prices, one from 1
-    on for each link of the lot, than these shares do, if there is no gain.
+    There always is just one of both, and None stands for the other. What is better is so by the most in
+    the sum over all links of the lot, so that it is EFFICIENT.
     """
     ways = len(net[1][flow][1])
     costs = (ZERO,) * ways + ((-1, 1),) * len(lot)
-    value, numbers, prices = _least_within(net, flow, shares, lot, costs)
-    gain = (-value[0], value[1])
-    return gain, numbers[:ways], tuple([(-num, den) for num, den in prices[:-1]])
+    least, numbers, prices = _least_within(net, flow, shares, lot, costs)
+    if least != ZERO:
+        return numbers[:ways], None
+    return None, tuple([
+        less(ZERO, prices[lot.index(link)]) if link in lot else ZERO for link in range(len(net[0]))
+    ])
 
 
 def is_efficient(net, flow, shares, lot):
     """Whether no shares are BETTER on the lot."""
-    return most_gained(net, flow, shares, lot)[0] == ZERO
+    return better_shares(net, flow, shares, lot) is None
 
 
 def better_shares(net, flow, shares, lot):
     """Shares that are BETTER on the lot, None if there are none."""
-    gain, better, _ = most_gained(net, flow, shares, lot)
-    return None if gain == ZERO else better
+    return better_or_prices(net, flow, shares, lot)[0]
 
 
 def is_better(net, flow, shares, lot, thing):
@@ -45,7 +46,6 @@ def is_better(net, flow, shares, lot, thing):
 def efficient_shares(net, flow, shares, lot):
     """EFFICIENT shares with no more load on any link of the lot: shares themselves if they are."""
     better = better_shares(net, flow, shares, lot)
-    # What gains the most in sum leaves nothing to gain.
     return shares if better is None else better
 
 

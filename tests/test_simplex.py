@@ -64,6 +64,21 @@ class SimplexTest(Case):
         ]
         costs = ((-3, 4), (150, 1), (-1, 50), (6, 1), Z, Z, Z)
         self.assertEqual(self.holds(costs, rows, [Z, Z, I]), (-1, 20))
+        # Others, for choices of the first, the last or the one with the greatest index among rows as tight.
+        for costs, rows in [
+            ([0, 4, 2, 3, -1, 0, 0, 0], [[0, -3, 0, 9, -2, 1, 0, 0], [0, -8, 5, 4, -7, 0, 0, 1], [0, 6, -7, 9, -7, 0, 1, 0]]),
+            ([3, 4, 0, 3, 8, 1, 0, 0, -9], [[-8, -7, 0, -3, 4, -7, 0, 1, -8], [7, 8, 1, 3, 2, -6, 0, 0, -6]]),
+            ([0, 0, 0, 0, 8, -2, -2, 4], [[0, 0, 0, 1, -6, 3, 2, -8], [0, 0, 1, 0, -9, -6, -3, 3], [0, 1, 0, 0, -5, 8, 1, -9]]),
+            ([4, 6, 9, 0, -1, 0, 0, -9, 0],
+             [[-8, -4, 2, 0, 1, 0, 1, -4, 0], [-9, -1, -5, 0, 7, 0, 0, -8, 1], [-2, -8, -6, 1, 3, 0, 0, 5, 0]]),
+            ([-3, -9, -9, 9, -5, 0, 0, 0, 0],
+             [[8, 8, 1, 4, 3, 1, 0, 0, 0], [6, -8, -9, -7, 4, 0, 1, 0, 0], [0, 4, -6, -6, 7, 0, 0, 1, 0]]),
+        ]:
+            rows = [*rows, [1] * len(costs)]
+            self.holds(
+                tuple(fraction(cost) for cost in costs), [tuple(fraction(part) for part in row) for row in rows],
+                [Z] * (len(rows) - 1) + [I],
+            )
 
 
 if __name__ == "__main__":
