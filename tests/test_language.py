@@ -2,7 +2,6 @@
 
 import ast
 import builtins
-import pathlib
 import unittest
 
 from tests.test_interface import FOLDER, FUNCTIONS
