@@ -23,7 +23,7 @@ def is_net(thing):
     rooms, flows = thing
     if not isinstance(rooms, tuple) or not isinstance(flows, tuple):
         return False
-    if not _are_from_zero(rooms, len(rooms)):
+    if not are_from_zero(rooms, len(rooms)):
         return False
     return all([_is_flow(flow, len(rooms)) for flow in flows])
 
@@ -31,7 +31,7 @@ def is_net(thing):
 def is_shares(net, flow, thing):
     """Whether thing is SHARES of the flow with this index."""
     demand, ways = net[1][flow]
-    return _are_from_zero(thing, len(ways)) and _come_to(thing, demand)
+    return are_from_zero(thing, len(ways)) and _come_to(thing, demand)
 
 
 def is_split(net, thing):
@@ -55,7 +55,7 @@ def is_lot(many, thing):
 
 def is_prices(net, lot, thing):
     """Whether thing is PRICES of a LOT of links."""
-    if not _are_from_zero(thing, len(net[0])):
+    if not are_from_zero(thing, len(net[0])):
         return False
     return all([(price[0] > 0) == (link in lot) for link, price in enumerate(thing)])
 
@@ -65,19 +65,21 @@ def is_costs(net, thing):
     flows = net[1]
     if not _is_row(thing, len(flows)):
         return False
-    return all([_are_fractions(row, len(flow[1])) for row, flow in zip(thing, flows)])
+    return all([are_fractions(row, len(flow[1])) for row, flow in zip(thing, flows)])
+
+
+def are_fractions(thing, many):
+    """Whether thing is a tuple of so many FRACTIONS, of either sign."""
+    return _is_row(thing, many) and all([is_fraction(part) for part in thing])
+
+
+def are_from_zero(thing, many):
+    """Whether thing is a tuple of so many FRACTIONS from 0 on."""
+    return are_fractions(thing, many) and all([part[0] >= 0 for part in thing])
 
 
 def _is_row(thing, many):
     return isinstance(thing, tuple) and len(thing) == many
-
-
-def _are_fractions(thing, many):
-    return _is_row(thing, many) and all([is_fraction(part) for part in thing])
-
-
-def _are_from_zero(thing, many):
-    return _are_fractions(thing, many) and all([part[0] >= 0 for part in thing])
 
 
 def _is_flow(thing, links):
@@ -88,7 +90,7 @@ def _is_flow(thing, links):
         return False
     if not isinstance(ways, tuple) or not ways:
         return False
-    return all([_are_from_zero(way, links) for way in ways])
+    return all([are_from_zero(way, links) for way in ways])
 
 
 def _come_to(shares, demand):

@@ -1,14 +1,14 @@
 """Orders and waves in which the flows may take over, so that no link ever bears too much."""
 
 from neverjammed.forms import is_integer, is_lot
-from neverjammed.lots import parts_of, together, without
+from neverjammed.lots import all_of, parts_of, together, without
 from neverjammed.nets import is_let
 from neverjammed.turns import is_clean, midst
 
 
 def let_lots(net, one, other):
     """The ascending list of the LOTS of flows whose MIDST of the turn is let."""
-    lots = parts_of(_all_flows(net))
+    lots = parts_of(all_of(net[1]))
     return [lot for lot in lots if is_let(net, midst(net, one, other, lot))]
 
 
@@ -20,7 +20,7 @@ def clean_order(net, one, other):
     order = ()
     for _ in net[1]:
         ahead = [
-            flow for flow in without(_all_flows(net), order)
+            flow for flow in without(all_of(net[1]), order)
             if counts.get(together(order, (flow,)), 0) > 0
         ]
         order = order + (ahead[0],)
@@ -44,7 +44,7 @@ def is_order(net, one, other, thing):
 def waves_of(net, one, other):
     """WAVES of the turn, as few lots as there are, None if there are none."""
     lets = {lot: True for lot in let_lots(net, one, other)}
-    everyone = _all_flows(net)
+    everyone = all_of(net[1])
     waves = {}
     # From the greatest lots down, so that what is left to do is known of all greater ones.
     for lot in sorted(lets, key=len, reverse=True):
@@ -75,10 +75,6 @@ def are_waves(net, one, other, thing):
     return True
 
 
-def _all_flows(net):
-    return tuple(range(len(net[1])))
-
-
 def _has_each_once(net, flows):
     if not all([is_integer(flow) for flow in flows]):
         return False
@@ -87,7 +83,7 @@ def _has_each_once(net, flows):
 
 def _counts_of_orders(net, one, other):
     """For each let lot of flows that have taken over, in how many orders the others can follow."""
-    everyone = _all_flows(net)
+    everyone = all_of(net[1])
     counts = {}
     for lot in sorted(let_lots(net, one, other), key=len, reverse=True):
         counts[lot] = 1 if lot == everyone else sum([

@@ -18,24 +18,57 @@ def least_sum(costs, rows, rights):
     All are FRACTIONS, the rights from 0 on; there have to be numbers that meet the rows, and a least sum.
     """
     many = len(costs)
-    scales = [common_den(row) for row in rows]
-    tall = common_den([times((scale, 1), right) for scale, right in zip(scales, rights)])
-    steep = common_den(costs)
-    state = _first_state(costs, rows, rights, scales, tall, steep)
+    scales, tall, steep = _scales_of(rows), _tall_of(rows, rights), common_den(costs)
+    state = _first_state(costs, rows, rights)
     state = _led_down(state, -1, many)
     state = _without_lacks(state, many)
-    lines, base, den = _led_down(state, -2, many)
+    state = _led_down(state, -2, many)
+    lines, _, den = state
+    prices = [reduced(-lines[-2][many + at] * scale, den * steep) for at, scale in enumerate(scales)]
+    return reduced(-lines[-2][-1], den * steep * tall), _numbers_of(state, many, tall), tuple(prices)
+
+
+def numbers_or_prices(many, rows, rights):
+    """A tuple (numbers, prices): so many numbers that meet the rows, or prices which show that there are none.
+
+    There always is just one of both, and None stands for the other. numbers are as in least_sum; prices
+    are one for each row, such that the sums of price * part over the rows are at most 0, but that of
+    price * right is above 0. All are FRACTIONS, the rights from 0 on.
+    """
+    state = _led_down(_first_state(((0, 1),) * many, rows, rights), -1, many)
+    lines, _, den = state
+    if lines[-1][-1] == 0:
+        return _numbers_of(state, many, _tall_of(rows, rights)), None
+    scales = _scales_of(rows)
+    return None, tuple([
+        reduced((den - lines[-1][many + at]) * scale, den) for at, scale in enumerate(scales)
+    ])
+
+
+def _scales_of(rows):
+    """For each row the integer that makes all of its parts integers."""
+    return [common_den(row) for row in rows]
+
+
+def _tall_of(rows, rights):
+    """The integer that makes all right sides integers, besides the one of each row."""
+    return common_den([times((scale, 1), right) for scale, right in zip(_scales_of(rows), rights)])
+
+
+def _numbers_of(state, many, tall):
+    """The numbers asked for that a state tells."""
+    lines, base, den = state
     numbers = [(0, 1)] * many
     for line, index in zip(lines, base):
         if index < many:
             numbers[index] = reduced(line[-1], den * tall)
-    prices = [reduced(-lines[-2][many + at] * scale, den * steep) for at, scale in enumerate(scales)]
-    return reduced(-lines[-2][-1], den * steep * tall), tuple(numbers), tuple(prices)
+    return tuple(numbers)
 
 
-def _first_state(costs, rows, rights, scales, tall, steep):
+def _first_state(costs, rows, rights):
     """The state in which each row tells only what lacks."""
     many = len(costs)
+    scales, tall = _scales_of(rows), _tall_of(rows, rights)
     lines = []
     for at, row in enumerate(rows):
         lacks = [0] * len(rows)
@@ -44,7 +77,7 @@ def _first_state(costs, rows, rights, scales, tall, steep):
         lines.append(_whole(row, scales[at]) + lacks + [right])
     sums = [-sum([line[column] for line in lines]) for column in range(many)]
     lack = sums + [0] * len(rows) + [-sum([line[-1] for line in lines])]
-    cost = _whole(costs, steep) + [0] * (len(rows) + 1)
+    cost = _whole(costs, common_den(costs)) + [0] * (len(rows) + 1)
     return lines + [cost, lack], tuple(range(many, many + len(rows))), 1
 
 

@@ -248,3 +248,47 @@ NOTHING = ((), ())
 PAIR = ((I, (3, 2)), ((I, ((I, Z), (Z, TWO))), (H, ((I, I),))))
 IDLE = ((Z, H), ((Z, ((I, I), (Z, Z))), ((2, 3), ((Z, H), (Z, H), (Z, Z)))))
 NETS = (PAIR, IDLE, NO_LINKS, NO_FLOWS, NOTHING)
+
+
+def let_grid(net):
+    """All let splits of a net whose shares are halves of the demands."""
+    grid = product(*[halves(demand, len(ways)) for demand, ways in net[1]])
+    return [split for split in grid if fits(net, split)]
+
+
+def some_costs(chance, net):
+    """Costs above, below and at 0, or all alike, or with long numbers."""
+    kind = chance.randrange(5)
+    pick = {
+        0: lambda: chance.choice([-1, 0, 0, 1]), 1: lambda: 0, 2: lambda: Fraction(-7, 3),
+        3: lambda: Fraction(chance.randrange(-9, 10), chance.randrange(1, 5)),
+        4: lambda: Fraction(chance.randrange(-10 ** 60, 10 ** 60), chance.randrange(1, 10 ** 60)),
+    }[kind]
+    return tuple(tuple(fraction(pick()) for _ in ways) for _, ways in net[1])
+
+
+def some_uneven(chance):
+    """A net that one of its splits fills, each way taking some of just one link, and up to three let splits."""
+    links = chance.randrange(2, 4)
+    flows = []
+    for _ in range(chance.randrange(2, 4)):
+        places = chance.sample(range(links), chance.randrange(2, links + 1))
+        sizes = [chance.choice([I, I, H, (2, 3)]) for _ in places]
+        ways = [tuple(size if k == link else Z for k in range(links)) for link, size in zip(places, sizes)]
+        flows.append((chance.choice([I, I, TWO]), tuple(ways)))
+    flows = tuple(flows)
+    full = tuple(chance.choice(halves(demand, len(ways))) for demand, ways in flows)
+    net = tuple(fraction(load) for load in loads(((Z,) * links, flows), full)), flows
+    if chance.randrange(2) == 0:
+        net = burdened(net, full)
+    let = let_grid(net)
+    return net, full, tuple(chance.sample(let, min(3, len(let))))
+
+
+def burdened(net, split):
+    """The net with a wide link more, of which only those ways take some that the split does not use."""
+    flows = tuple(
+        (demand, tuple(way + ((Z,) if share[0] else ((9, 1),)) for way, share in zip(ways, shares)))
+        for (demand, ways), shares in zip(net[1], split)
+    )
+    return net[0] + ((999, 1),), flows

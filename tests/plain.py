@@ -229,3 +229,85 @@ def plainly_bar(net, one, other, thing):
     if not plainly_lot(len(net[0]), lot) or plainly_agree(net, one, other, lot):
         return False
     return plainly_lock_paper(net, (one, other)[which], lot, paper)
+
+
+# Papers of jams, of costs and of none, added up item by item.
+
+def plainly_jam_sums(net, one, other, count, paper):
+    """The LOADS of a paper, and the sum of its rooms."""
+    rooms, flows = net
+    loads_at_ends, costs = Fraction(0), {}
+    for (turn, link, lot), part in paper.items():
+        for flow, (_, ways) in enumerate(flows):
+            split = turn + 1 if flow in lot else turn
+            if split in (0, count):
+                loads_at_ends += number(part) * loads_of_shares(net, flow, (one if split == 0 else other)[flow])[link]
+                continue
+            for way, takings in enumerate(ways):
+                key = split, flow, way
+                costs[key] = costs.get(key, Fraction(0)) + number(part) * number(takings[link])
+    least = Fraction(0)
+    for split, flow in {(split, flow) for split, flow, _ in costs}:
+        demand, ways = flows[flow]
+        least += number(demand) * min(costs[split, flow, way] for way in range(len(ways)))
+    return loads_at_ends + least, sum((number(part) * number(rooms[key[1]]) for key, part in paper.items()), Fraction(0))
+
+
+def plainly_jam_paper(net, one, other, count, thing):
+    if type(thing) is not dict:
+        return False
+    for key, part in thing.items():
+        if type(key) is not tuple or len(key) != 3 or not plainly_lot(len(net[1]), key[2]):
+            return False
+        if not plainly_integer(key[0]) or not 0 <= key[0] <= count - 1:
+            return False
+        if not plainly_integer(key[1]) or not 0 <= key[1] <= len(net[0]) - 1:
+            return False
+        if not plainly_fraction(part) or Fraction(*part) <= 0:
+            return False
+    borne, room = plainly_jam_sums(net, one, other, count, thing)
+    return borne > room
+
+
+def plain_cost(split, costs):
+    return sum((number(a) * number(b) for row, shares in zip(costs, split) for a, b in zip(row, shares)), Fraction(0))
+
+
+def plain_sum_of_paper(net, split, costs, paper):
+    prices, tolls = paper
+    total = Fraction(0)
+    for flow, (demand, ways) in enumerate(net[1]):
+        rows = []
+        for way, takings in enumerate(ways):
+            extra = [(number(p) + number(t)) * number(a) for p, t, a in zip(prices, tolls[flow], takings)]
+            rows.append(number(costs[flow][way]) + sum(extra))
+        total += number(demand) * min(rows)
+        borne = loads_of_shares(net, flow, split[flow])
+        total -= sum(number(toll) * load for toll, load in zip(tolls[flow], borne))
+    return total - sum(number(price) * number(room) for price, room in zip(prices, net[0]))
+
+
+def plainly_cost_paper(net, split, costs, least, thing):
+    if type(thing) is not tuple or len(thing) != 2 or not plainly_row(thing[0], len(net[0]), 0):
+        return False
+    if type(thing[1]) is not tuple or len(thing[1]) != len(net[1]):
+        return False
+    lock = plainly_thinned(net, split)[-1]
+    for row in thing[1]:
+        if not plainly_row(row, len(net[0])):
+            return False
+        if any(toll[0] != 0 and link not in lock for link, toll in enumerate(row)):
+            return False
+    return plain_sum_of_paper(net, split, costs, thing) >= number(least)
+
+
+def plainly_none_paper(net, thing):
+    if not plainly_row(thing, len(net[0]), 0):
+        return False
+    needed = sum(number(demand) * min(costs_of_ways(net, flow, thing)) for flow, (demand, _) in enumerate(net[1]))
+    return needed > sum(number(part) * number(room) for part, room in zip(thing, net[0]))
+
+
+def plainly_joined(net, one, other):
+    lock = plainly_thinned(net, one)[-1]
+    return lock == plainly_thinned(net, other)[-1] and plainly_agree(net, one, other, lock)

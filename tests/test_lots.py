@@ -2,7 +2,7 @@
 
 import unittest
 
-from neverjammed.lots import parts_of, together, without
+from neverjammed.lots import all_of, least_lots, parts_of, together, without
 from tests.helper import Case, lots
 
 
@@ -24,6 +24,13 @@ class LotsTest(Case):
             self.gives((0, 1, 2, 3, 4), together, left, lot)
             self.gives((0, 1, 2, 3, 4), together, lot[::-1], left)
             self.gives(lot, without, lot, left)
+
+    def test_all_and_the_least(self):
+        self.gives((), all_of, [])
+        self.gives((0, 1, 2), all_of, "abc")
+        for wanted in [[], [()], [(0,)], [(0, 2), (1,)], [(0, 1), (0, 2), (1, 2)], [(0, 1, 2, 3)], [(0, 3), (1, 2)]]:
+            found = least_lots("abcd", lambda lot, wanted=wanted: any(set(part) <= set(lot) for part in wanted))
+            self.assertEqual(found, wanted)
 
 
 if __name__ == "__main__":

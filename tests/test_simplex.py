@@ -4,7 +4,7 @@ import random
 import unittest
 from fractions import Fraction
 
-from neverjammed.simplex import least_sum
+from neverjammed.simplex import least_sum, numbers_or_prices
 from tests.helper import Case, H, I, TWO, Z, fraction, number
 
 
@@ -79,6 +79,52 @@ class SimplexTest(Case):
                 tuple(fraction(cost) for cost in costs), [tuple(fraction(part) for part in row) for row in rows],
                 [Z] * (len(rows) - 1) + [I],
             )
+
+    def meets(self, many, rows, rights):
+        """Just one of numbers that meet the rows and prices that show that there are none; whether it is numbers."""
+        numbers, prices = numbers_or_prices(many, rows, rights)
+        self.gives((numbers, prices), numbers_or_prices, many, rows, rights)
+        self.assertNotEqual(numbers is None, prices is None)
+        if numbers is not None:
+            xs = [number(x) for x in numbers]
+            self.assertTrue(all(x >= 0 for x in xs) and len(xs) == many)
+            for row, right in zip(rows, rights):
+                self.assertEqual(sum(number(part) * x for part, x in zip(row, xs)), number(right))
+            return True
+        ys = [number(y) for y in prices]
+        self.assertEqual([fraction(y) for y in ys], list(prices))
+        self.assertEqual(len(ys), len(rows))
+        for at in range(many):
+            self.assertLessEqual(sum(number(row[at]) * y for row, y in zip(rows, ys)), 0)
+        self.assertGreater(sum(number(right) * y for right, y in zip(rights, ys)), 0)
+        return False
+
+    def test_numbers_or_prices_by_hand(self):
+        self.assertTrue(self.meets(0, [], []))
+        self.assertTrue(self.meets(2, [], []))
+        self.assertTrue(self.meets(2, [(I, I)], [H]))
+        self.assertFalse(self.meets(2, [(Z, (-1, 1))], [H]))
+        self.assertTrue(self.meets(2, [(Z, (-1, 1))], [Z]))
+        self.assertFalse(self.meets(2, [(I, I), (I, I)], [I, H]))
+        self.assertTrue(self.meets(2, [(I, I), (TWO, TWO)], [I, TWO]))
+        self.assertFalse(self.meets(2, [(I, H), (H, (1, 3))], [I, I]))
+        self.assertFalse(self.meets(1, [(I,), ((1, 3),)], [(1, 10 ** 40), (1, 3 * 10 ** 40 + 1)]))
+        self.assertTrue(self.meets(1, [(I,), ((1, 3),)], [(1, 10 ** 40), (1, 3 * 10 ** 40)]))
+
+    def test_numbers_or_prices(self):
+        chance = random.Random(8)
+        seen = {True: 0, False: 0}
+        for kind in range(400):
+            many, size = chance.randrange(1, 7), chance.randrange(1, 6)
+            rows = [[chance.choice([0, 0, 1, 1, 2, -1, Fraction(2, 3)]) for _ in range(many)] for _ in range(size)]
+            den = 10 ** 50 if kind % 3 == 0 else 6
+            xs = [Fraction(chance.choice([0, 1, 2, chance.randrange(den)]), chance.choice([1, den])) for _ in range(many)]
+            rights = [abs(sum(part * x for part, x in zip(row, xs))) for row in rows]
+            if kind % 2 == 0:
+                rights[chance.randrange(size)] += Fraction(1, chance.choice([1, 10 ** 30]))
+            is_so = self.meets(many, [tuple(fraction(part) for part in row) for row in rows], [fraction(right) for right in rights])
+            seen[is_so] += 1
+        self.assertGreater(min(seen.values()), 80)
 
 
 if __name__ == "__main__":
