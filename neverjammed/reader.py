@@ -10,7 +10,7 @@ def read_net(text):
     """The NET that a text shows."""
     if not isinstance(text, str):
         raise Wrong(0)
-    return _net_of(_worded_lines(text), _many_lines(text))
+    return net_of_lines(worded_lines(text), many_lines(text))
 
 
 def read_split(net, text):
@@ -19,31 +19,35 @@ def read_split(net, text):
         raise Wrong(0)
     if not isinstance(text, str):
         raise Wrong(1)
-    return _split_of(net, _worded_lines(text), _many_lines(text))
+    return split_of_lines(net, worded_lines(text), many_lines(text))
 
 
-def _many_lines(text):
+def many_lines(text):
+    """How many lines a text has, empty ones among them."""
     return text.count("\n") + 1
 
 
-def _worded_lines(text):
+def worded_lines(text):
+    """The tuples (index, words) of the lines of a text that have words ahead of a remark."""
     # Each line keeps its index, as the lines that are skipped are counted, too.
     found = []
     for index, line in enumerate(text.split("\n")):
-        words = _words_of(line.partition("#")[0])
+        words = words_of(line.partition("#")[0])
         if words:
             found.append((index, words))
     return found
 
 
-def _words_of(line):
+def words_of(line):
+    """The words of a line."""
     # Only blanks part words: split() without an argument would take tabs as well.
     return [word for word in line.split(" ") if word]
 
 
-def _net_of(lines, many):
+def net_of_lines(lines, behind):
+    """The NET of worded lines: NoText(behind) if something lacks."""
     if not lines:
-        raise NoText(many)
+        raise NoText(behind)
     rooms = _rooms_of(lines[0])
     flows = []
     for index, words in lines[1:]:
@@ -55,7 +59,7 @@ def _net_of(lines, many):
         else:
             raise NoText(index)
     if flows and not flows[-1][1]:
-        raise NoText(many)
+        raise NoText(behind)
     return rooms, tuple([(demand, tuple(ways)) for demand, ways in flows])
 
 
@@ -66,7 +70,8 @@ def _rooms_of(line):
     return _numbers_of(index, words, len(words) - 1)
 
 
-def _split_of(net, lines, many):
+def split_of_lines(net, lines, behind):
+    """The SPLIT of worded lines: NoText(behind) if something lacks."""
     flows = net[1]
     split = []
     for index, words in lines:
@@ -78,31 +83,32 @@ def _split_of(net, lines, many):
             raise NoText(index)
         split.append(shares)
     if len(split) < len(flows):
-        raise NoText(many)
+        raise NoText(behind)
     return tuple(split)
 
 
 def _numbers_of(index, words, many):
-    parts = [_fraction_of(word) for word in words[1:]]
+    parts = [fraction_of(word) for word in words[1:]]
     if len(parts) != many or None in parts:
         raise NoText(index)
     return tuple(parts)
 
 
-def _fraction_of(word):
-    # None stands for a word that is no FRACTION from 0 on as it is shown.
+def fraction_of(word):
+    """The FRACTION from 0 on that a word shows, None if it shows none."""
     num, stroke, den = word.partition("/")
     if not stroke:
         den = "1"
     elif den == "1":
         return None
-    if not _is_number(num) or not _is_number(den):
+    if not is_number(num) or not is_number(den):
         return None
     part = (int(num), int(den))
     return part if is_fraction(part) else None
 
 
-def _is_number(word):
+def is_number(word):
+    """Whether a word is an integer from 0 on, as Python shows it, of at most nine digits."""
     if not word.isascii() or not word.isdigit() or len(word) > MOST_DIGITS:
         return False
     return word == "0" or not word.startswith("0")

@@ -115,6 +115,109 @@ JOINING = r'''
 [True, True, None, 1]
 '''
 
+FEWEST = r'''
+>>> from neverjammed.fewest import fewest_turns, is_jam_paper, jam_paper, turns_within
+>>> one, zero = (1, 1), (0, 1)
+>>> net = (((3, 2),), ((one, ((one,), (zero,))), (one, ((one,), (zero,)))))
+>>> here, there = ((one, zero), (zero, one)), ((zero, one), (one, zero))
+>>> [fewest_turns(net, here, there, 3), fewest_turns(net, here, there, 1), fewest_turns(net, here, here, 0)]
+[2, None, 0]
+>>> [turns_within(net, here, there, 1), jam_paper(net, here, there, 2), turns_within(net, here, here, 0) == (here,)]
+[None, None, True]
+>>> [is_jam_paper(net, here, there, 1, {(0, 0, (1,)): (5, 1)}), is_jam_paper(net, here, there, 1, {(0, 0, (0,)): (5, 1)})]
+[True, False]
+>>> left, right = (one, zero), (zero, one)
+>>> full = ((one, one), ((one, (left, right)), (one, (left, right))))
+>>> is_jam_paper(full, here, there, 2, {(0, 1, (0,)): one, (1, 0, (1,)): one})
+True
+>>> [is_jam_paper(full, here, there, 2, {(0, 1, (0,)): one}), is_jam_paper(full, here, there, 2, {}), fewest_turns(full, here, there, 2)]
+[False, False, None]
+'''
+
+COSTS = r'''
+>>> from neverjammed.cheapest import cheapest, cost_of, near_split
+>>> from neverjammed.costpapers import is_cost_paper, sum_of_paper
+>>> one, zero, half = (1, 1), (0, 1), (1, 2)
+>>> left, right = (one, zero), (zero, one)
+>>> net = ((one, one), ((one, (left, right)), (one, ((half, zero), right))))
+>>> free, locked = ((zero, one), (one, zero)), ((one, zero), (zero, one))
+>>> costs = ((zero, one), (one, zero))
+>>> [cost_of(net, free, costs), cheapest(net, free, costs), cost_of(net, near_split(net, free, costs, (1, 4)), costs)[0] > 0]
+[(2, 1), ('neared', (0, 1), (((1, 1), (0, 1)), ((0, 1), (1, 1)))), True]
+>>> [cheapest(net, locked, ((one, zero), (zero, one)))[:2], cheapest(net, free, ((one, zero), (zero, one)))[:2]]
+[('reached', (2, 1)), ('reached', (0, 1))]
+>>> paper = ((zero, zero), ((zero, zero), (zero, zero)))
+>>> [sum_of_paper(net, free, costs, paper), is_cost_paper(net, free, costs, zero, paper), is_cost_paper(net, free, costs, one, paper)]
+[(0, 1), True, False]
+>>> is_cost_paper(net, locked, ((one, zero), (zero, one)), (2, 1), ((zero, zero), (((-1, 1), zero), (zero, (-1, 1)))))
+True
+'''
+
+INNER = r'''
+>>> from neverjammed.inner import is_inner, is_none_paper, let_split, need_of
+>>> from neverjammed.lockable import all_joined, cheapest_lots, lockable_lots, split_locking
+>>> one, zero, half = (1, 1), (0, 1), (1, 2)
+>>> left, right, both = (one, zero), (zero, one), (half, half)
+>>> net = ((one, one), ((one, (left, right)), (one, (left, right))))
+>>> [need_of(net), lockable_lots(net), all_joined(net), is_inner(net, ((one, zero), (zero, one)))]
+[(0, 1), [(), (0, 1)], False, True]
+>>> [cheapest_lots(net, 0, (0, 1)), cheapest_lots(net, 0, (0,)), cheapest_lots(net, 0, ())]
+[[(0, 1)], [(1,)], [(0, 1)]]
+>>> [cheapest_lots((net[0], ((one, (left, both, right)),)), 0, (0, 1)), split_locking(net, (0,))]
+[[(0, 1, 2)], None]
+>>> wide = (((2, 1), (1, 1)), net[1])
+>>> [need_of(wide), lockable_lots(wide), all_joined(wide), lockable_lots(((half, one), net[1]))]
+[(), [()], True, []]
+>>> [is_none_paper(((half, one), net[1]), (one, one)), is_none_paper(net, (one, one)), is_none_paper(((), ()), ())]
+[True, False, False]
+'''
+
+FREEING = r'''
+>>> from neverjammed.freeing import freeing_flows, freeing_links, frees_by_links, idle_net, idle_split
+>>> from neverjammed.freeing import road_with_idle, road_with_wider, wider_net
+>>> one, zero, half = (1, 1), (0, 1), (1, 2)
+>>> left, right = (one, zero), (zero, one)
+>>> net = ((one, one), ((one, (left, right)), (one, (left, right))))
+>>> here, there = ((one, zero), (zero, one)), ((zero, one), (one, zero))
+>>> [freeing_links(net, here, there), freeing_flows(net, here, there), freeing_links(net, here, here)]
+[[(0,), (1,)], [(0,), (1,)], [()]]
+>>> [frees_by_links(net, here, there, ()), frees_by_links(net, here, there, (0, 1)), wider_net(net, (1,), half)[0]]
+[False, True, ((1, 1), (3, 2))]
+>>> [idle_net(net, (0,))[1][0], idle_split(net, here, (0,))]
+[((1, 1), (((1, 1), (0, 1)), ((0, 1), (1, 1)), ((0, 1), (0, 1)))), (((1, 1), (0, 1), (0, 1)), ((0, 1), (1, 1)))]
+>>> road = road_with_wider(net, here, there, (1,), half)
+>>> [road[0] == here, road[1][-1][0] == there, road_with_wider(net, here, there, (), half), road_with_idle(net, here, there, ())]
+[True, True, None, None]
+'''
+
+CONTROL = r'''
+>>> from neverjammed.control import Control
+>>> one, zero, half = (1, 1), (0, 1), (1, 2)
+>>> left, right, spare = (one, zero, zero), (zero, one, zero), (zero, zero, one)
+>>> net = ((one, one, one), ((one, (left, right, spare)), (one, (left, right))))
+>>> here, aside = ((one, zero, zero), (zero, one)), ((zero, zero, one), (zero, one))
+>>> there = ((zero, zero, one), (one, zero))
+>>> control = Control(net, here)
+>>> [control.can_order(there), control.order(aside), control.worst_loads(), control.must_hear(there)]
+[False, 1, ((1, 1), (1, 1), (1, 1)), [(0,)]]
+>>> [control.pending(0), control.may_stand(here), control.may_stand(there), control.sure_split()]
+[[(0, ((1, 1), (0, 1), (0, 1))), (1, ((0, 1), (0, 1), (1, 1)))], True, False, None]
+>>> [control.heard(0, 1), control.must_hear(there), control.order(there), control.worst_numbers(0), control.worst_loads()]
+[None, [()], 2, (1, 2), ((1, 1), (1, 1), (1, 1))]
+>>> [control.heard(0, 2), control.heard(1, 2), control.sure_split() == there, control.twin() == control, control == Control(net, there)]
+[None, None, True, True, False]
+'''
+
+DESK = r'''
+>>> from neverjammed.desk import Desk
+>>> ways = "\nway 1 0 0\nway 0 1 0"
+>>> desk = Desk("rooms 1 1 1\nflow 1" + ways + "\nway 0 0 1\nflow 1" + ways + "\nshares 1 0 0\nshares 0 1")
+>>> [desk.execute(line) for line in ["order 0 0 1 ; 1 0", "order 0 0 1 ; 0 1", "hear 0 0 1 ; 1 0", "sure", "heard 0 1", "pending 1"]]
+[['refused Jammed 0'], ['1'], ['0'], ['not sure'], ['done'], ['0 0 1', '1 0 1']]
+>>> [desk.execute(line) for line in ["worst", "sure", "lock", "joined 0 1 0 ; 1 0", "heard 2 0", "heard 1 1"]]
+[['0 1 1'], ['shares 0 0 1', 'shares 0 1'], [''], ['yes'], ['refused NoFlow'], ['done']]
+'''
+
 
 class ExamplesTest(unittest.TestCase):
 
@@ -139,8 +242,26 @@ class ExamplesTest(unittest.TestCase):
     def test_loosening_and_joining(self):
         self.holds("[24]", JOINING, 14)
 
+    def test_turns_enough(self):
+        self.holds("[25]", FEWEST, 11)
+
+    def test_the_cheapest_and_papers_of_costs(self):
+        self.holds("[27]", COSTS, 12)
+
+    def test_inner_splits_and_lots_that_can_be_locked(self):
+        self.holds("[29]", INNER, 11)
+
+    def test_lots_that_set_free(self):
+        self.holds("[30]", FREEING, 11)
+
+    def test_control(self):
+        self.holds("[31]", CONTROL, 11)
+
+    def test_desk(self):
+        self.holds("[32]", DESK, 5)
+
     def test_readme(self):
-        self.holds("README.md", README.read_text(), 20)
+        self.holds("README.md", README.read_text(), 43)
 
 
 if __name__ == "__main__":
